@@ -86,21 +86,25 @@ func ExpandOn(before, b string, most int) (string, api.Errno, int) {
 	if most < 0 {
 		return "", api.ErrArg, 0
 	}
-	ahead := min(len(before), mostOffset) // no offset reaches further
-	said := []byte(before[len(before)-ahead:])
-	e, at := walk(b, ahead, most, func(x piece) bool {
+	var said []byte
+	e, at := walk(b, len(before), most, func(x piece) bool {
 		said = append(said, x.literals...)
-		said = lay(said, x.offset, x.count)
+		said = lay(before, said, x.offset, x.count)
 		return true
 	})
 	if e != api.OK {
 		return "", e, at
 	}
-	return string(said[ahead:]), api.OK, 0
+	return string(said), api.OK, 0
 }
 
-// lay repeats what stands from the offset on. What it laid goes on the same way: so each round may take twice as much.
-func lay(said []byte, offset, count int) []byte {
+// lay repeats what stands from the offset on, at first what stood ahead of it all. What it laid goes on the same way: so each round may take twice as much.
+func lay(before string, said []byte, offset, count int) []byte {
+	if beyond := offset - len(said); beyond > 0 {
+		k := min(count, beyond)
+		said = append(said, before[len(before)-beyond:][:k]...)
+		count -= k
+	}
 	from := len(said) - offset
 	for count > 0 {
 		k := min(count, len(said)-from)
