@@ -373,6 +373,35 @@ func TestTailRight(t *testing.T) { // 19.8
 	}
 }
 
+// endingIn0 is bytes with four more behind, such that the sum of all is 0.
+func endingIn0(b string) string {
+	c := ^uint32(of4(plainSum(b)))
+	back := uint32(0xFFFFFFFF)
+	for range 32 { // each step of the sum taken back
+		if back&(1<<31) == 0 {
+			back <<= 1
+		} else {
+			back = (back^0x82F63B78)<<1 | 1
+		}
+	}
+	return b + four(uint64(c^back))
+}
+
+// TestSumOf0: a sum that is not there is not taken for one of noughts.
+func TestSumOf0(t *testing.T) { // 19.8, 19.9
+	v := plainSaved{head: [10]uint64{64, 1000, 3, 2, 1, 500, 1, 1, 0, 0}, last: 1, payload: endingIn0("\x01\x00\x05x")}
+	b := v.written()
+	if s, e, _ := Load(b); s == nil || e != api.OK || !strings.HasSuffix(b, "\x00\x00\x00\x00") {
+		t.Fatalf("Load(%x): %v", b, e)
+	}
+	for cut := 1; cut <= 4; cut++ {
+		if s, e, at := Load(b[:len(b)-cut]); s != nil || e != api.ErrImage || at != 88 {
+			t.Errorf("Load without the last %d bytes: %v, %d", cut, e, at)
+		}
+		holdsRead(t, b[:len(b)-cut])
+	}
+}
+
 // TestAnySaved: logs by chance, spoilt by chance under sums that are right, or cut; then they go on.
 func TestAnySaved(t *testing.T) { // 19.8 to 19.10
 	source := rand.New(rand.NewSource(198))
